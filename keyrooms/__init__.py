@@ -1,0 +1,1 @@
+"""Keyrooms: doors opened by keys that serve once."""
