@@ -31,13 +31,14 @@ def is_safe(hand, rooms, left, number):
 
 
 def order_of_all(house):
-    """An order of all rooms of a plain house that nothing bars."""
+    """The first order of all rooms of a plain house that nothing bars."""
     hand, rooms = house
     left = list(range(len(rooms)))
     order = []
     while left:
         # A door takes one key and one lock of a kind, so no kind gets short. What is left stands
-        # as a house that nothing bars just where each room still comes, so a safe one is always there.
+        # as a house that nothing bars just where each room still comes, so a safe one is always there,
+        # and the lowest safe one at each step makes the first order.
         at = 0
         while not is_safe(hand, rooms, left, left[at]):
             at += 1

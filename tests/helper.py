@@ -27,6 +27,11 @@ BAD_ROOMS = [None, True, 3, "ab", b"ab", [], (), ["a"], [["a"], []], [["a"], ["b
              (["a"], ["b"], None), ([], ["a"]), {"a": []}, {"locks": ["a"]}, ("a", "b"), ("a", []), (["a"], "b"),
              (None, []), (["a"], None), ((["a"], []),), [(["a"], [])], object()]
 
+NOT_PLAIN = [([], [(["a", "b"], [])]), (["a", "a"], [(["a", "a"], [])]), (["a"], [(["a"], []), (["b", "c"], [])]),
+             (["a", "b"], [(["a", "b"], ["a"]), (["a"], [])])]
+
+NO_LISTS = [None, True, 0, 1, "", "0", b"", (), (0,), {}, {0: 1}, set(), object(), range(0), (("a",), [])]
+
 
 def endless_list():
     """A list that holds itself."""
@@ -98,6 +103,18 @@ def every_order(house):
     return found
 
 
+def whole_orders(house):
+    """Every order of all rooms, in order."""
+    return sorted(order for order in every_order(house) if len(order) == len(house[1]))
+
+
+def stuck_orders(house):
+    """Every order behind which none that is left may be opened, in order."""
+    orders = every_order(house)
+    longer = {tuple(order[:-1]) for order in orders if order}
+    return sorted(order for order in orders if tuple(order) not in longer)
+
+
 def can_be_opened(house):
     """Whether all rooms can be opened, by trying each set of opened rooms."""
     whole = frozenset(range(len(house[1])))
@@ -154,6 +171,19 @@ def large_houses():
     rounds = (["t"] * 20, pairs)
     houses = [ahead, behind, rounds]
     houses.append((["t"] * 60 + ["u"] * 220, [(["t"], []) for number in range(60)]))
+    return houses
+
+
+def free_house(many, most_locks=1):
+    """A house whose rooms may be opened in any order."""
+    return (["a"] * (many * most_locks), [(["a"] * most_locks, ["z"]) for number in range(many)])
+
+
+def too_large_houses():
+    """Houses of thirteen rooms and of sixty, plain and not, with orders of all rooms and without."""
+    houses = [free_house(13), free_house(13, 2), free_house(60), free_house(60, 4), row_house(13), row_house(60)]
+    houses.append(([], [(["a"], []) for number in range(13)]))
+    houses.append((["a"], [(["a"], ["a"]) for number in range(12)] + [(["a", "b"], [])]))
     return houses
 
 

@@ -3,11 +3,15 @@
 import unittest
 
 from keyrooms import errors
+from keyrooms.bought import buying_paper, buying_shows, keys_to_buy
 from keyrooms.countings import kinds_counted, kinds_that_come, rooms_that_come
 from keyrooms.errors import (KeyroomError, NoHouse, NoKind, NoNumber, NoOrder, NoPlain, NoRow, NoStep, NoText,
                              TooMany)
+from keyrooms.firstorder import first_order, goes_on
 from keyrooms.houses import is_plain, is_stuck, keys_behind, next_rooms
+from keyrooms.most import most_rooms, most_worth, stuck_sets, worth_paper, worth_shows
 from keyrooms.opening import bars_house, told_opening
+from keyrooms.orders import how_many_orders, how_many_stuck, nth_order, number_of_order
 
 from helper import not_houses, refused
 
@@ -58,12 +62,13 @@ class Refusals(unittest.TestCase):
 class NoHouseAhead(unittest.TestCase):
 
     def test_of_a_house_alone(self):
-        for deed in [is_plain, kinds_counted, kinds_that_come, rooms_that_come, told_opening]:
+        for deed in [is_plain, kinds_counted, kinds_that_come, rooms_that_come, told_opening, first_order, keys_to_buy,
+                     buying_paper, how_many_orders, how_many_stuck, most_rooms, stuck_sets]:
             for thing in not_houses():
                 refused(self, NoHouse, deed, thing)
 
     def test_ahead_of_no_step(self):
-        for deed in [keys_behind, next_rooms, is_stuck]:
+        for deed in [keys_behind, next_rooms, is_stuck, goes_on]:
             for thing in not_houses():
                 for order in [[], [0], [-1], None, (), "a"]:
                     refused(self, NoHouse, deed, thing, order)
@@ -73,6 +78,31 @@ class NoHouseAhead(unittest.TestCase):
             refused(self, NoHouse, told_opening, thing)
             for paper in [("few", "a", 0, 1), ("shut", ["a"]), ("shut", []), ("few", "A", -1, 1)]:
                 refused(self, NoHouse, bars_house, thing, paper)
+            refused(self, NoHouse, first_order, thing)
+            refused(self, NoHouse, keys_to_buy, thing)
+            refused(self, NoHouse, buying_paper, thing)
+            for paper in [({}, []), ({"a": 1}, [["a"]]), ({"A": -1}, [[]])]:
+                refused(self, NoHouse, buying_shows, thing, paper, 0)
+
+    def test_ahead_of_too_many(self):
+        rooms = [(["a", "b"], []) for number in range(13)]
+        for thing in [([], rooms + [(["b", "a"], [])]), (["A"], rooms), ((), rooms), [[], rooms], ([], tuple(rooms))]:
+            for deed in [how_many_orders, how_many_stuck, most_rooms, stuck_sets]:
+                refused(self, NoHouse, deed, thing)
+            for order in [[], [0], None]:
+                refused(self, NoHouse, goes_on, thing, order)
+                refused(self, NoHouse, number_of_order, thing, order)
+
+    def test_ahead_of_no_number_and_no_order(self):
+        for thing in not_houses():
+            for k in [0, -1, None]:
+                refused(self, NoHouse, nth_order, thing, k)
+            for order in [[], [0], [-1], None]:
+                refused(self, NoHouse, number_of_order, thing, order)
+            for worths in [[], [0], [-1], None]:
+                refused(self, NoHouse, most_worth, thing, worths)
+                refused(self, NoHouse, worth_paper, thing, worths)
+                refused(self, NoHouse, worth_shows, thing, worths, [[]], 0)
 
 
 if __name__ == "__main__":

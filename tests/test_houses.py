@@ -5,13 +5,11 @@ import unittest
 from keyrooms.errors import NoStep
 from keyrooms.houses import is_house, is_plain, is_stuck, keys_behind, next_rooms
 
-from helper import (BAD_KINDS, BAD_LOCKS, GOOD_KINDS, GOOD_LOCKS, every_order, not_houses, opened, refused,
+from helper import (BAD_KINDS, BAD_LOCKS, GOOD_KINDS, GOOD_LOCKS, NO_LISTS, every_order, not_houses, opened, refused,
                     some_houses, told)
 
 # Room 2 wants two keys of one kind, and room 3 lies behind it.
 HALL = (["b", "a"], [(["a"], ["a", "c"]), (["b"], ["a"]), (["a", "a"], ["z", "d"]), (["c", "d"], []), (["e"], ["e"])])
-
-NO_LISTS = [None, True, 0, 1, "", "0", b"", (), (0,), {}, {0: 1}, set(), object(), range(0), (("a",), [])]
 
 NO_ROOMS = [-1, -2, -5, -6, 5, 6, 60, 10 ** 29, -10 ** 29, True, False, None, "0", "", "a", b"0", [], [0], (), (0,),
             {}, {0}, object(), int, HALL]

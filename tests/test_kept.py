@@ -3,12 +3,16 @@
 import copy
 import unittest
 
+from keyrooms.bought import buying_paper, buying_shows, keys_to_buy
 from keyrooms.countings import kinds_counted, kinds_that_come, rooms_that_come
 from keyrooms.errors import KeyroomError
+from keyrooms.firstorder import first_order, goes_on
 from keyrooms.houses import is_house, is_plain, is_stuck, keys_behind, next_rooms
+from keyrooms.most import most_rooms, most_worth, stuck_sets, worth_paper, worth_shows
 from keyrooms.opening import bars_house, told_opening
+from keyrooms.orders import how_many_orders, how_many_stuck, nth_order, number_of_order
 
-from helper import held, key_number, large_houses, row_house, some_houses, soon, told
+from helper import free_house, held, key_number, large_houses, row_house, some_houses, soon, told
 
 OPEN = (["a", "b"], [(["a"], ["c"]), (["b"], []), (["c"], ["d", "a"]), (["a"], [])])
 SHUT = (["x", "x"], [(["b"], ["a"]), (["x"], ["y"]), (["a"], ["b"]), (["x"], [])])
@@ -22,12 +26,26 @@ def asked():
     for house in [OPEN, SHUT, SHORT, SEVERAL, ([], []), (["a"], [])]:
         for deed in [is_house, is_plain, kinds_counted, kinds_that_come, rooms_that_come]:
             questions.append((deed, (house,)))
-        for deed in [keys_behind, next_rooms, is_stuck]:
+        for deed in [how_many_orders, how_many_stuck, most_rooms, stuck_sets]:
+            questions.append((deed, (house,)))
+        for deed in [keys_behind, next_rooms, is_stuck, goes_on]:
             questions.append((deed, (house, [])))
             if house[1] and house != SHUT:
                 questions.append((deed, (house, [0])))
+        worths = list(range(len(house[1]), 0, -1))
+        paper = sorted([[number] for number in range(len(house[1]))] + [[]], reverse=True)
+        questions.append((most_worth, (house, worths)))
+        questions.append((worth_paper, (house, worths)))
+        questions.append((worth_shows, (house, worths, worth_paper(house, worths), 99)))
+        questions.append((worth_shows, (house, worths, paper, 99)))
+    for house, order in [(OPEN, [1, 0, 2, 3]), (([], []), [])]:
+        questions.append((nth_order, (house, 0)))
+        questions.append((number_of_order, (house, order)))
     for house in [OPEN, SHUT, SHORT, ([], [])]:
-        questions.append((told_opening, (house,)))
+        for deed in [told_opening, first_order, keys_to_buy, buying_paper]:
+            questions.append((deed, (house,)))
+        questions.append((buying_shows, (house, buying_paper(house), 0)))
+        questions.append((buying_shows, (house, ({"c": 1, "a": 1}, [["b", "a"], ["a", "b"], []]), 0)))
         questions.append((bars_house, (house, ("shut", ["a", "b"]))))
         questions.append((bars_house, (house, ("few", "c", 0, 1))))
     return questions
@@ -37,9 +55,24 @@ def not_answered():
     """Each function with things that it refuses."""
     wrong = ([["b", "a"]], [(["a"], ["b", "a"])])
     several = ([["b", "a"][0], "a"], [(["a", "a"], ["b", "a"])])
+    large = (["b", "a"], [(["a", "b"], ["b", "a"]) for number in range(13)])
     questions = [(deed, (wrong,)) for deed in [is_plain, kinds_counted, kinds_that_come, rooms_that_come,
                                                told_opening]]
-    for deed in [keys_behind, next_rooms, is_stuck]:
+    for deed in [first_order, keys_to_buy, buying_paper]:
+        questions += [(deed, (wrong,)), (deed, (several,))]
+    for deed in [how_many_orders, how_many_stuck, most_rooms, stuck_sets]:
+        questions += [(deed, (wrong,)), (deed, (large,))]
+    for house in [wrong, several]:
+        questions.append((buying_shows, (house, ({"b": 1, "a": 1}, [["b", "a"], []]), 1)))
+    for house in [wrong, large, OPEN]:
+        questions.append((goes_on, (house, [3, 3, 1])))
+        questions.append((nth_order, (house, -1)))
+        questions.append((number_of_order, (house, [3, 2, 1, 0])))
+        for worths in [[3, 2, 1, -1], [3, 2, 1], {3: [2, 1]}]:
+            questions.append((most_worth, (house, worths)))
+            questions.append((worth_paper, (house, worths)))
+            questions.append((worth_shows, (house, worths, [[1, 0], [1], []], 3)))
+    for deed in [keys_behind, next_rooms, is_stuck, goes_on]:
         questions.append((deed, (wrong, [0])))
         questions.append((deed, (OPEN, [1, 0, 0])))
         questions.append((deed, (OPEN, [0, [1], {2: [3]}])))
@@ -105,7 +138,20 @@ class StandApart(unittest.TestCase):
         self.assertEqual(told_opening(house), ("all", [0, 1]))
         self.assertEqual(keys_behind(house, [0]), ["b", "c"])
         self.assertEqual(kinds_counted(house), {"a": (1, 1), "b": (1, 0), "c": (2, 1)})
+        self.assertEqual(first_order(house), [0, 1])
+        self.assertEqual(keys_to_buy(house), [])
+        self.assertEqual(nth_order(house, 0), [0, 1])
+        self.assertEqual(most_rooms(house), (2, [0, 1]))
+        worths = [2, 3]
+        self.assertEqual(most_worth(house, worths), (5, [0, 1]))
+        worths[1] = 0
+        self.assertEqual(most_worth(house, worths), (2, [0]))
         house[0].clear()
+        self.assertIsNone(first_order(house))
+        self.assertIs(goes_on(house, []), False)
+        self.assertEqual(keys_to_buy(house), ["a"])
+        self.assertEqual(how_many_orders(house), 0)
+        self.assertEqual(most_worth(house, worths), (0, []))
         self.assertEqual(told_opening(house), ("few", "a", 0, 1))
         self.assertEqual(kinds_that_come(house), [])
         house[1][0][0].append("a")
@@ -119,6 +165,10 @@ class StandApart(unittest.TestCase):
         self.assertEqual(told(self, keys_behind, house, [0, 1]), ["a"])
         self.assertEqual(told(self, kinds_counted, house), {"a": (3, 2)})
         self.assertEqual(told(self, told_opening, house)[0], "all")
+        self.assertEqual(told(self, first_order, house), [0, 1])
+        self.assertEqual(told(self, buying_paper, ([], house[1])), ({}, [["a"]]))
+        self.assertEqual(told(self, how_many_orders, house), 2)
+        self.assertEqual(told(self, worth_paper, house, [1, 1]), [[], [0], [0, 1], [1]])
         self.assertEqual(keys, ["a"])
 
 
@@ -169,6 +219,24 @@ class Sizes(unittest.TestCase):
                 self.assertEqual(sum(keys for keys, locks in counts.values()), key_number(house))
                 self.assertEqual(told(self, kinds_that_come, house), sorted(counts))
         self.assertGreaterEqual(sizes.count((60, 280)), 3)
+
+    def test_twelve_rooms_and_280_keys(self):
+        keys, rooms = free_house(12, 4)
+        house = (keys + ["b"] * 100, [(locks, ["a", "b"] * 5 + ["c"]) for locks, within in rooms])
+        self.assertEqual(key_number(house), 280)
+        worths = [10 ** 30 - 1 - number for number in range(12)]
+        with soon():
+            order = told(self, nth_order, house, 400000000)
+            self.assertEqual(told(self, number_of_order, house, order), 400000000)
+            self.assertIs(told(self, goes_on, house, order[:5]), True)
+            self.assertEqual(told(self, how_many_orders, house), told(self, how_many_stuck, house))
+            self.assertEqual(told(self, most_rooms, house), (12, list(range(12))))
+            self.assertEqual(told(self, stuck_sets, house), [list(range(12))])
+            worth, best = told(self, most_worth, house, worths)
+            self.assertEqual((worth, best), (sum(worths), list(range(12))))
+            paper = told(self, worth_paper, house, worths)
+            self.assertIs(told(self, worth_shows, house, worths, paper, worth), True)
+            self.assertIs(told(self, worth_shows, house, worths, paper, worth - 1), False)
 
 
 if __name__ == "__main__":

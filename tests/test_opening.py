@@ -6,10 +6,7 @@ import unittest
 from keyrooms.errors import NoPlain
 from keyrooms.opening import bars_house, told_opening
 
-from helper import can_be_opened, large_houses, opened, refused, row_house, some_houses, soon, told
-
-NOT_PLAIN = [([], [(["a", "b"], [])]), (["a", "a"], [(["a", "a"], [])]), (["a"], [(["a"], []), (["b", "c"], [])]),
-             (["a", "b"], [(["a", "b"], ["a"]), (["a"], [])])]
+from helper import NOT_PLAIN, can_be_opened, large_houses, opened, refused, row_house, some_houses, soon, told
 
 PAPERS = [("few", "a", 0, 1), ("few", "b", 0, 1), ("shut", ["a"]), ("shut", []), ("shut", ["b", "a"])]
 
