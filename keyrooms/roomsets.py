@@ -6,11 +6,11 @@ from keyrooms.houses import require_house
 MOST_ROOMS = 12
 
 
-def require_small(thing):
+def require_small(thing, most=MOST_ROOMS):
     """Refuse what is no house, then a house of too many rooms."""
     require_house(thing)
-    if len(thing[1]) > MOST_ROOMS:
-        raise TooMany(f"this house has more than {MOST_ROOMS} rooms")
+    if len(thing[1]) > most:
+        raise TooMany(f"this house has more than {most} rooms")
 
 
 def with_room(opened, number):

@@ -2,6 +2,7 @@
 
 import contextlib
 import copy
+import itertools
 import random
 import signal
 
@@ -131,6 +132,15 @@ def can_be_opened(house):
     return whole in seen
 
 
+def fewest(house):
+    """The fewest keys to be bought, by trying all lists of keys, fewer ones first."""
+    kinds = sorted({lock for locks, inner in house[1] for lock in locks})
+    for many in itertools.count():
+        for keys in itertools.combinations_with_replacement(kinds, many):
+            if can_be_opened((house[0] + list(keys), house[1])):
+                return many
+
+
 def some_houses(seed, many, most_locks, most_rooms=5):
     """Small houses of few kinds, the same ones at each call."""
     chance = random.Random(seed)
@@ -144,6 +154,11 @@ def some_houses(seed, many, most_locks, most_rooms=5):
             rooms.append((locks, [chance.choice(kinds) for key in range(chance.choice([0, 0, 1, 1, 1, 2, 3]))]))
         houses.append((keys, rooms))
     return houses
+
+
+def mixed_houses(seed):
+    """Small houses of one lock at a door and of several."""
+    return some_houses(seed, 150, 1) + some_houses(seed + 1, 200, 2) + some_houses(seed + 2, 100, 4)
 
 
 def kind_called(number):
@@ -185,6 +200,22 @@ def too_large_houses():
     houses.append(([], [(["a"], []) for number in range(13)]))
     houses.append((["a"], [(["a"], ["a"]) for number in range(12)] + [(["a", "b"], [])]))
     return houses
+
+
+def kinds_of(house):
+    """The kinds that a house has, of a key or a lock, sorted."""
+    return sorted(set(house[0]) | {kind for room in house[1] for part in room for kind in part})
+
+
+def renamed(house, naming):
+    """The house with its kinds named by a dict, locks and keys sorted."""
+    rooms = [tuple(sorted(naming[kind] for kind in part) for part in room) for room in house[1]]
+    return (sorted(naming[kind] for kind in house[0]), rooms)
+
+
+def keys_sorted(house):
+    """The house with its keys sorted."""
+    return renamed(house, {kind: kind for kind in kinds_of(house)})
 
 
 def key_number(house):

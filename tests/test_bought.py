@@ -8,8 +8,8 @@ from keyrooms.bought import buying_paper, buying_shows, keys_to_buy
 from keyrooms.errors import NoPlain
 from keyrooms.opening import told_opening
 
-from helper import (NOT_PLAIN, can_be_opened, free_house, kind_called, large_houses, refused, row_house, some_houses,
-                    soon, told)
+from helper import (NOT_PLAIN, can_be_opened, fewest, free_house, kind_called, large_houses, refused, row_house,
+                    some_houses, soon, told)
 
 # Two keys of kind t are lacking, the rings of a, b and of c are shut, and d lies behind c.
 WANTING = (["x", "t"], [(["a"], ["b"]), (["b"], ["a", "a"]), (["c"], ["c", "d"]), (["d"], []), (["t"], []),
@@ -42,15 +42,6 @@ def shows_by_words(house, paper, many):
         if any(set(part) & set(other) for other in parts[:at]):
             return False
     return many <= sum(lacks.values()) + len(parts)
-
-
-def fewest(house):
-    """The fewest keys to be bought, by trying all lists of keys, fewer ones first."""
-    kinds = sorted({lock for locks, inner in house[1] for lock in locks})
-    for many in itertools.count():
-        for keys in itertools.combinations_with_replacement(kinds, many):
-            if can_be_opened((house[0] + list(keys), house[1])):
-                return many
 
 
 def ring_houses(seed, many):

@@ -9,9 +9,11 @@ from keyrooms.errors import (KeyroomError, NoHouse, NoKind, NoNumber, NoOrder, N
                              TooMany)
 from keyrooms.firstorder import first_order, goes_on
 from keyrooms.houses import is_plain, is_stuck, keys_behind, next_rooms
+from keyrooms.kinds import may_be_one, named_kinds, without_needless
 from keyrooms.most import most_rooms, most_worth, stuck_sets, worth_paper, worth_shows
 from keyrooms.opening import bars_house, told_opening
 from keyrooms.orders import how_many_orders, how_many_stuck, nth_order, number_of_order
+from keyrooms.texts import show_house
 
 from helper import not_houses, refused
 
@@ -63,7 +65,8 @@ class NoHouseAhead(unittest.TestCase):
 
     def test_of_a_house_alone(self):
         for deed in [is_plain, kinds_counted, kinds_that_come, rooms_that_come, told_opening, first_order, keys_to_buy,
-                     buying_paper, how_many_orders, how_many_stuck, most_rooms, stuck_sets]:
+                     buying_paper, how_many_orders, how_many_stuck, most_rooms, stuck_sets, without_needless,
+                     show_house]:
             for thing in not_houses():
                 refused(self, NoHouse, deed, thing)
 
@@ -92,6 +95,10 @@ class NoHouseAhead(unittest.TestCase):
             for order in [[], [0], None]:
                 refused(self, NoHouse, goes_on, thing, order)
                 refused(self, NoHouse, number_of_order, thing, order)
+            for first, other in [("a", "b"), ("a", "a"), ("q", None)]:
+                refused(self, NoHouse, may_be_one, thing, first, other)
+            refused(self, NoHouse, named_kinds, thing, ([], rooms))
+            refused(self, NoHouse, named_kinds, ([], rooms), thing)
 
     def test_ahead_of_no_number_and_no_order(self):
         for thing in not_houses():

@@ -5,14 +5,18 @@ import unittest
 
 from keyrooms.bought import buying_paper, buying_shows, keys_to_buy
 from keyrooms.countings import kinds_counted, kinds_that_come, rooms_that_come
+from keyrooms.desk import Desk
 from keyrooms.errors import KeyroomError
 from keyrooms.firstorder import first_order, goes_on
 from keyrooms.houses import is_house, is_plain, is_stuck, keys_behind, next_rooms
+from keyrooms.kinds import may_be_one, named_kinds, without_needless
 from keyrooms.most import most_rooms, most_worth, stuck_sets, worth_paper, worth_shows
 from keyrooms.opening import bars_house, told_opening
 from keyrooms.orders import how_many_orders, how_many_stuck, nth_order, number_of_order
+from keyrooms.texts import read_house, show_house
 
-from helper import free_house, held, key_number, large_houses, row_house, some_houses, soon, told
+from helper import (every_order, free_house, held, key_number, keys_sorted, large_houses, row_house, some_houses, soon,
+                    told)
 
 OPEN = (["a", "b"], [(["a"], ["c"]), (["b"], []), (["c"], ["d", "a"]), (["a"], [])])
 SHUT = (["x", "x"], [(["b"], ["a"]), (["x"], ["y"]), (["a"], ["b"]), (["x"], [])])
@@ -26,8 +30,14 @@ def asked():
     for house in [OPEN, SHUT, SHORT, SEVERAL, ([], []), (["a"], [])]:
         for deed in [is_house, is_plain, kinds_counted, kinds_that_come, rooms_that_come]:
             questions.append((deed, (house,)))
-        for deed in [how_many_orders, how_many_stuck, most_rooms, stuck_sets]:
+        for deed in [how_many_orders, how_many_stuck, most_rooms, stuck_sets, without_needless, show_house]:
             questions.append((deed, (house,)))
+        questions.append((read_house, (show_house(house),)))
+        for other in [OPEN, SHUT, ([], [])]:
+            questions.append((named_kinds, (house, other)))
+        if house[1]:
+            questions.append((may_be_one, (house, "a", "b")))
+            questions.append((may_be_one, (house, "b", "a")))
         for deed in [keys_behind, next_rooms, is_stuck, goes_on]:
             questions.append((deed, (house, [])))
             if house[1] and house != SHUT:
@@ -57,7 +67,14 @@ def not_answered():
     several = ([["b", "a"][0], "a"], [(["a", "a"], ["b", "a"])])
     large = (["b", "a"], [(["a", "b"], ["b", "a"]) for number in range(13)])
     questions = [(deed, (wrong,)) for deed in [is_plain, kinds_counted, kinds_that_come, rooms_that_come,
-                                               told_opening]]
+                                               told_opening, without_needless, show_house, read_house]]
+    questions += [(named_kinds, (wrong, several)), (named_kinds, (several, wrong)), (named_kinds, (wrong, wrong))]
+    for house in [wrong, large, several]:
+        for first, other in [("b", "b"), ("a", "q"), (["b", "a"], {"a": ["b"]})]:
+            questions.append((may_be_one, (house, first, other)))
+    for text in [["b", "a"], {"a": ["b"]}, "b a"]:
+        questions.append((read_house, (text,)))
+        questions.append((Desk().say, (text,)))
     for deed in [first_order, keys_to_buy, buying_paper]:
         questions += [(deed, (wrong,)), (deed, (several,))]
     for deed in [how_many_orders, how_many_stuck, most_rooms, stuck_sets]:
@@ -146,6 +163,10 @@ class StandApart(unittest.TestCase):
         self.assertEqual(most_worth(house, worths), (5, [0, 1]))
         worths[1] = 0
         self.assertEqual(most_worth(house, worths), (2, [0]))
+        self.assertEqual(without_needless(house), (["a"], [(["a"], ["c"]), (["c"], ["c"])]))
+        self.assertEqual(show_house(house), "a\na: b c\nc: c")
+        self.assertIs(may_be_one(house, "a", "c"), False)
+        self.assertEqual(named_kinds(house, house), {"a": "a", "b": "b", "c": "c"})
         house[0].clear()
         self.assertIsNone(first_order(house))
         self.assertIs(goes_on(house, []), False)
@@ -153,6 +174,9 @@ class StandApart(unittest.TestCase):
         self.assertEqual(how_many_orders(house), 0)
         self.assertEqual(most_worth(house, worths), (0, []))
         self.assertEqual(told_opening(house), ("few", "a", 0, 1))
+        self.assertIs(may_be_one(house, "a", "c"), True)
+        self.assertEqual(show_house(house), "-\na: b c\nc: c")
+        self.assertIsNone(named_kinds(house, (["a"], house[1])))
         self.assertEqual(kinds_that_come(house), [])
         house[1][0][0].append("a")
         self.assertIs(is_plain(house), False)
@@ -169,7 +193,35 @@ class StandApart(unittest.TestCase):
         self.assertEqual(told(self, buying_paper, ([], house[1])), ({}, [["a"]]))
         self.assertEqual(told(self, how_many_orders, house), 2)
         self.assertEqual(told(self, worth_paper, house, [1, 1]), [[], [0], [0, 1], [1]])
+        self.assertEqual(told(self, without_needless, house), house)
+        self.assertEqual(told(self, named_kinds, house, house), {"a": "a"})
+        self.assertEqual(told(self, read_house, told(self, show_house, house)), house)
         self.assertEqual(keys, ["a"])
+
+    def test_a_house_that_is_told_may_be_handed_in(self):
+        for house in some_houses(44, 150, 2):
+            less = told(self, without_needless, house)
+            self.assertEqual(told(self, without_needless, less), less)
+            again = told(self, read_house, told(self, show_house, house))
+            self.assertEqual(again, keys_sorted(house))
+            self.assertIsNotNone(told(self, named_kinds, house, again))
+            orders = every_order(house)
+            for handed in [less, again]:
+                self.assertIs(is_house(handed), True)
+                self.assertIs(is_plain(handed), is_plain(house))
+                self.assertEqual(told(self, how_many_orders, handed), how_many_orders(house))
+                self.assertEqual(told(self, most_rooms, handed), most_rooms(house))
+                self.assertEqual([told(self, next_rooms, handed, order) for order in orders],
+                                 [next_rooms(house, order) for order in orders])
+
+    def test_what_is_told_by_the_desk_may_be_handed_in(self):
+        desk = Desk()
+        for row in ["keys b a", "room b+a z c", "room c -"]:
+            self.assertEqual(desk.say(row), "ok")
+        self.assertEqual(read_house(desk.say("show").replace("; ", "\n")),
+                         (["a", "b"], [(["a", "b"], ["c", "z"]), (["c"], [])]))
+        self.assertEqual(desk.say("keys " + desk.say("hand")), "ok")
+        self.assertEqual(desk.say("open " + desk.say("next")), "ok")
 
 
 class KindsOfAnswers(unittest.TestCase):
@@ -184,7 +236,8 @@ class KindsOfAnswers(unittest.TestCase):
 
     def test_truths_are_truths(self):
         for house in some_houses(42, 100, 2):
-            for deed, handed in [(is_house, (house,)), (is_plain, (house,)), (is_stuck, (house, []))]:
+            for deed, handed in [(is_house, (house,)), (is_plain, (house,)), (is_stuck, (house, [])),
+                                 (may_be_one, ((house[0] + ["y", "z"], house[1]), "y", "z"))]:
                 self.assertIs(type(told(self, deed, *handed)), bool)
 
     def test_tuples_are_tuples_of_their_kinds(self):
@@ -218,6 +271,9 @@ class Sizes(unittest.TestCase):
                 counts = told(self, kinds_counted, house)
                 self.assertEqual(sum(keys for keys, locks in counts.values()), key_number(house))
                 self.assertEqual(told(self, kinds_that_come, house), sorted(counts))
+                self.assertEqual(sorted(told(self, named_kinds, house, house)), sorted(counts))
+                self.assertEqual(told(self, read_house, told(self, show_house, house)), keys_sorted(house))
+                self.assertEqual(len(told(self, without_needless, house)[1]), len(house[1]))
         self.assertGreaterEqual(sizes.count((60, 280)), 3)
 
     def test_twelve_rooms_and_280_keys(self):

@@ -7,8 +7,8 @@ import unittest
 from keyrooms.errors import NoNumber, TooMany
 from keyrooms.most import most_rooms, most_worth, stuck_sets, worth_paper, worth_shows
 
-from helper import (every_order, free_house, opened, refused, row_house, some_houses, soon, stuck_orders, told,
-                    too_large_houses)
+from helper import (every_order, free_house, mixed_houses, opened, refused, row_house, some_houses, soon, stuck_orders,
+                    told, too_large_houses)
 
 GREAT = 10 ** 30 - 1
 
@@ -25,11 +25,6 @@ def some_worths(seed, houses):
     """The houses, each with worths of its rooms, often alike or 0."""
     chance = random.Random(seed)
     return [(house, [chance.choice([0, 0, 1, 1, 2, 3, GREAT]) for room in house[1]]) for house in houses]
-
-
-def mixed_houses(seed):
-    """Small houses of one lock at a door and of several."""
-    return some_houses(seed, 150, 1) + some_houses(seed + 1, 200, 2) + some_houses(seed + 2, 100, 4)
 
 
 def together(worths, numbers):
